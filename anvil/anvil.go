@@ -10,19 +10,36 @@ import (
 )
 
 // Store is a store on a disk of its own.
-type Store struct{ way way.Kind }
+type Store struct {
+	mode int
+	disk *disk.Disk
+	way  way.Kind
+}
 
 // New makes a store on an empty disk (P3).
 func New(mode int) (*Store, api.Errno) {
-	kind, e := way.New(mode, &disk.Disk{})
-	if e != api.OK {
-		return nil, e
+	if !way.Known(mode) {
+		return nil, api.ErrMode
 	}
-	return &Store{kind}, api.OK
+	d := &disk.Disk{}
+	return &Store{mode, d, way.New(mode, d)}, api.OK
 }
 
 // Open makes a store on a disk that holds these bytes (P4).
-func Open(mode int, image []byte) (*Store, api.Errno) { return nil, api.OK }
+func Open(mode int, image []byte) (*Store, api.Errno) {
+	if !way.Known(mode) {
+		return nil, api.ErrMode
+	}
+	d, whole := disk.Of(image)
+	if !whole {
+		return nil, api.ErrCorrupt
+	}
+	s := &Store{mode: mode, disk: d}
+	if e := s.comeBack(way.Adopt); e != api.OK {
+		return nil, e
+	}
+	return s, api.OK
+}
 
 // Begin begins a transaction (P6).
 func (s *Store) Begin() (int, api.Errno) { return s.way.Begin() }
@@ -79,10 +96,27 @@ func (s *Store) Dump() ([]api.Pair, api.Errno) { return s.way.Committed(), api.O
 func (s *Store) Log() ([]api.Entry, api.Errno) { return s.way.Entries(), api.OK }
 
 // Image tells what the disk would hold if it failed now (P12).
-func (s *Store) Image(keep uint64) []byte { return nil }
+func (s *Store) Image(keep uint64) []byte { return s.disk.Image(keep) }
 
 // Arm has the disk fail at a write to come (P13).
 func (s *Store) Arm(n int) {}
 
 // Restart has the disk fail, and comes back (P14).
-func (s *Store) Restart(keep uint64, tear int, fuse int) api.Errno { return api.OK }
+func (s *Store) Restart(keep uint64, tear int, fuse int) api.Errno {
+	s.disk.Fail(keep)
+	return s.comeBack(way.Back)
+}
+
+func (s *Store) comeBack(how func(mode int, d *disk.Disk) way.Kind) (e api.Errno) {
+	defer func() {
+		switch p := recover().(type) {
+		case nil:
+		case way.Foreign:
+			e = api.ErrCorrupt
+		default:
+			panic(p)
+		}
+	}()
+	s.way = how(s.mode, s.disk)
+	return api.OK
+}

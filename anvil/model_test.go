@@ -25,7 +25,14 @@ type modelTx struct {
 }
 
 func newModel(mode int) *model {
-	return &model{mode: mode, committed: map[string]string{}, open: map[int]*modelTx{}}
+	m := &model{committed: map[string]string{}}
+	m.start(mode)
+	return m
+}
+
+// start is what New, Open and Restart do but for what is committed.
+func (m *model) start(mode int) {
+	*m = model{mode: mode, committed: m.committed, open: map[int]*modelTx{}}
 }
 
 func (m *model) begin() (int, api.Errno) {

@@ -53,25 +53,95 @@ func someCall(r *rand.Rand, s *Store, m *model) (what, got, want string) {
 	return "Checkpoint", tell(s.Checkpoint()), tell(m.checkpoint())
 }
 
-// TestAsTheModel: P1, P6 to P11: any run of calls is answered as the model answers it.
-func TestAsTheModel(t *testing.T) {
-	for seed := range int64(150) {
-		for _, mode := range []int{api.Steal, api.NoSteal} {
-			r := rand.New(rand.NewSource(seed))
-			s, _ := New(mode)
-			m := newModel(mode)
-			for i := range 260 {
-				what, got, want := someCall(r, s, m)
-				if got != want {
-					t.Fatalf("seed %d, mode %d, call %d: %s = %s, want %s", seed, mode, i, what, got, want)
-				}
-				if pairs, e := s.Dump(); e != api.OK || !slices.Equal(pairs, m.dump()) {
-					t.Fatalf("P10: seed %d, mode %d, call %d: behind %s Dump = %v, %d, want %v", seed, mode, i, what, pairs, e, m.dump())
-				}
-				if log, e := s.Log(); e != api.OK || !slices.Equal(log, m.log) {
-					t.Fatalf("P11: seed %d, mode %d, call %d: behind %s Log = %+v, %d, want %+v", seed, mode, i, what, log, e, m.log)
-				}
-			}
+// sameCall makes one call and holds all that the store tells against the model.
+func sameCall(t *testing.T, r *rand.Rand, s *Store, m *model) {
+	t.Helper()
+	what, got, want := someCall(r, s, m)
+	if got != want {
+		t.Fatalf("%s = %s, want %s", what, got, want)
+	}
+	sameAs(t, what, s, m)
+}
+
+func sameAs(t *testing.T, what string, s *Store, m *model) {
+	t.Helper()
+	if pairs, e := s.Dump(); e != api.OK || !slices.Equal(pairs, m.dump()) {
+		t.Fatalf("P10: behind %s Dump = %v, %d, want %v", what, pairs, e, m.dump())
+	}
+	if log, e := s.Log(); e != api.OK || !slices.Equal(log, m.log) {
+		t.Fatalf("P11: behind %s Log = %+v, %d, want %+v", what, log, e, m.log)
+	}
+}
+
+// seeds runs a test with some random sources, for stores of both modes.
+func seeds(t *testing.T, n int64, f func(t *testing.T, r *rand.Rand, mode int)) {
+	for seed := range n {
+		for mode, name := range []string{"Steal", "NoSteal"} {
+			t.Run(fmt.Sprintf("%s%d", name, seed), func(t *testing.T) {
+				f(t, rand.New(rand.NewSource(seed)), mode)
+			})
 		}
 	}
+}
+
+// TestAsTheModel: P1, P6 to P11: any run of calls is answered as the model answers it.
+func TestAsTheModel(t *testing.T) {
+	seeds(t, 150, func(t *testing.T, r *rand.Rand, mode int) {
+		s, m := made(t, mode), newModel(mode)
+		for range 260 {
+			sameCall(t, r, s, m)
+		}
+	})
+}
+
+// someKeep tells a choice of which all, none, few or half of the writes are kept.
+func someKeep(r *rand.Rand) uint64 {
+	switch r.Intn(5) {
+	case 0:
+		return 0
+	case 1:
+		return ^uint64(0)
+	case 2:
+		return 1<<r.Intn(64) | 1<<r.Intn(8)
+	case 3:
+		return ^(1<<r.Intn(64) | 1<<r.Intn(8))
+	}
+	return r.Uint64()
+}
+
+// sameBack has a store come back, by Restart or in one that is opened on its
+// image, of either mode, and holds that against the model.
+func sameBack(t *testing.T, r *rand.Rand, s *Store, m *model) *Store {
+	t.Helper()
+	keep, mode := someKeep(r), r.Intn(2)
+	for range 2 {
+		o := opened(t, mode, s.Image(keep))
+		behind := *m
+		behind.start(mode)
+		sameAs(t, fmt.Sprintf("Open(%d, Image(%x))", mode, keep), o, &behind)
+		sameAs(t, "Image", s, m)
+		if r.Intn(3) == 0 {
+			m.start(mode)
+			return o
+		}
+		mode = 1 - mode
+	}
+	answers(t, "P14: Restart", s.Restart(keep, r.Intn(70)-3, 0), api.OK)
+	m.start(m.mode)
+	sameAs(t, fmt.Sprintf("Restart(%x)", keep), s, m)
+	return s
+}
+
+// TestAsTheModelBehindStarts: P4, P12, P14, P15, and P6 to P11 of stores that came back.
+func TestAsTheModelBehindStarts(t *testing.T) {
+	seeds(t, 150, func(t *testing.T, r *rand.Rand, mode int) {
+		s, m := made(t, mode), newModel(mode)
+		often := 2 + r.Intn(60)
+		for range 400 {
+			sameCall(t, r, s, m)
+			if r.Intn(often) == 0 {
+				s = sameBack(t, r, s, m)
+			}
+		}
+	})
 }

@@ -21,6 +21,19 @@ type Disk struct {
 	unsynced []write // the oldest first
 }
 
+// Of makes a disk that holds the bytes of an image: false, if they are not as
+// many as a disk has.
+func Of(image []byte) (*Disk, bool) {
+	if len(image) != api.Sectors*api.Sector {
+		return nil, false
+	}
+	d := &Disk{}
+	for at := range d.lasting {
+		copy(d.lasting[at][:], image[at*api.Sector:])
+	}
+	return d, true
+}
+
 // Write writes a sector. It is lasting behind the next Sync.
 func (d *Disk) Write(at int, data Block) {
 	d.unsynced = append(d.unsynced, write{at, data})
@@ -44,18 +57,28 @@ func (d *Disk) Sync() {
 	d.unsynced = nil
 }
 
-// Image tells the bytes that would be left if the disk lost its unsynced writes,
-// but for those whose number modulo 64 is the place of a 1 in keep.
+// Fail loses the unsynced writes, but for those whose number modulo 64 is the
+// place of a 1 in keep.
+func (d *Disk) Fail(keep uint64) {
+	d.lasting = d.left(keep)
+	d.unsynced = nil
+}
+
+// Image tells the bytes that Fail would leave.
 func (d *Disk) Image(keep uint64) []byte {
+	image := make([]byte, 0, api.Sectors*api.Sector)
+	for _, b := range d.left(keep) {
+		image = append(image, b[:]...)
+	}
+	return image
+}
+
+func (d *Disk) left(keep uint64) [api.Sectors]Block {
 	left := d.lasting
 	for i, w := range d.unsynced {
 		if keep>>(i%64)&1 == 1 {
 			left[w.at] = w.data
 		}
 	}
-	image := make([]byte, 0, api.Sectors*api.Sector)
-	for _, b := range left {
-		image = append(image, b[:]...)
-	}
-	return image
+	return left
 }

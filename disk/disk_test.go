@@ -78,6 +78,51 @@ func TestKeepCountsModulo64(t *testing.T) {
 	}
 }
 
+func TestFailLeavesWhatImageTells(t *testing.T) {
+	for keep := range uint64(8) {
+		d := &Disk{}
+		d.Write(7, filled(1))
+		d.Sync()
+		d.Write(7, filled(2))
+		d.Write(8, filled(3))
+		d.Write(7, filled(4))
+		want := d.Image(keep)
+		d.Fail(keep)
+		if !bytes.Equal(d.Image(0), want) || !bytes.Equal(d.Image(^uint64(0)), want) {
+			t.Errorf("keep %b: the disk holds something else, or has unsynced writes", keep)
+		}
+		if d.Read(7) != sectorOf(want, 7) || d.Read(8) != sectorOf(want, 8) {
+			t.Errorf("keep %b: sectors 7 and 8 are read as %d, %d", keep, d.Read(7)[0], d.Read(8)[0])
+		}
+	}
+}
+
+func TestADiskOfAnImage(t *testing.T) {
+	image := make([]byte, 2*api.Sectors*api.Sector)
+	for i := range image {
+		image[i] = byte(i/api.Sector + i)
+	}
+	kept := bytes.Clone(image)
+	for _, n := range []int{0, 1, api.Sector, 27775, 27777, len(image)} {
+		if d, ok := Of(image[:n]); d != nil || ok {
+			t.Errorf("a disk of %d bytes", n)
+		}
+	}
+	d, ok := Of(image[:27776])
+	if !ok || !bytes.Equal(d.Image(0), kept[:27776]) || !bytes.Equal(d.Image(^uint64(0)), kept[:27776]) {
+		t.Error("a disk holds other bytes than those of its image")
+	}
+	clear(image)
+	if !bytes.Equal(d.Image(0), kept[:27776]) {
+		t.Error("a disk keeps what it was made of")
+	}
+	d.Write(0, filled(9))
+	d.Sync()
+	if !bytes.Equal(image, make([]byte, len(image))) {
+		t.Error("a disk writes into what it was made of")
+	}
+}
+
 func TestImageIsNewMemory(t *testing.T) {
 	d := &Disk{}
 	d.Write(0, filled(1))

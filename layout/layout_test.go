@@ -13,12 +13,15 @@ var stamp = Stamp{Start: 1 << 30, Count: 0xfffefdfc}
 func is(v string) api.Cell { return api.Cell{Is: true, Val: v} }
 
 func TestEveryPartHasItsSectors(t *testing.T) {
-	used := map[int]string{0: "master", 1: "master"}
+	used := map[int]string{}
 	take := func(at int, who string) {
 		if at < 0 || at >= api.Sectors || used[at] != "" {
 			t.Errorf("%s at sector %d, which is of %q", who, at, used[at])
 		}
 		used[at] = who
+	}
+	for turn := range Copies {
+		take(MasterAt(turn), "master")
 	}
 	for page := range api.Pages {
 		for turn := range Copies {
@@ -67,6 +70,15 @@ func TestEntriesAreReadAsWritten(t *testing.T) {
 	}
 }
 
+func TestMastersAreReadAsWritten(t *testing.T) {
+	for _, m := range []Master{{}, {Log: 1, Mode: api.NoSteal}, {Log: 1<<32 - 1, Mode: 255}} {
+		s, got, ok := UnpackMaster(PackMaster(stamp, m))
+		if s != stamp || got != m || !ok {
+			t.Errorf("%+v is read as %+v, %v, %v", m, got, s, ok)
+		}
+	}
+}
+
 func TestPagesAreReadAsWritten(t *testing.T) {
 	full := []api.Pair{{Key: "12345678", Val: "123456789012"}, {Key: "\x00"}, {Key: "c", Val: "\x00"}, {Key: "d", Val: "z"}}
 	for n := range len(full) + 1 {
@@ -92,6 +104,36 @@ func TestTornEntriesShow(t *testing.T) {
 		if _, _, ok := UnpackEntry(mixed); ok != (mixed == a || mixed == b) {
 			t.Errorf("torn behind %d bytes: taken for an entry: %v", bytes, ok)
 		}
+	}
+}
+
+func TestTornMastersShow(t *testing.T) {
+	a := PackMaster(Stamp{255, 2}, Master{Log: 255, Mode: api.NoSteal})
+	b := PackMaster(Stamp{256, 1}, Master{Log: 255, Mode: api.Steal})
+	for bytes := range api.Sector + 1 {
+		mixed := torn(a, b, bytes)
+		if _, _, ok := UnpackMaster(mixed); ok != (mixed == a || mixed == b) {
+			t.Errorf("torn behind %d bytes: taken for a master record: %v", bytes, ok)
+		}
+	}
+}
+
+func TestLastStartIsOfBothEnds(t *testing.T) {
+	a, b := PackEntry(Stamp{5, 9}, api.Entry{}), PackEntry(Stamp{3, 10}, api.Entry{})
+	for bytes := range api.Sector + 1 {
+		want := uint32(5)
+		if bytes >= api.Sector-4 { // all of the start at the end is overwritten
+			want = 3
+		}
+		if got := LastStart(torn(a, b, bytes)); got != want {
+			t.Errorf("3 over 5, torn behind %d bytes: %d", bytes, got)
+		}
+		if got := LastStart(torn(b, a, bytes)); got != 5 && bytes > 3 {
+			t.Errorf("5 over 3, torn behind %d bytes: %d", bytes, got)
+		}
+	}
+	if LastStart(disk.Block{}) != 0 {
+		t.Error("a sector that was never written has a start")
 	}
 }
 

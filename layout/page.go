@@ -6,8 +6,7 @@ import (
 )
 
 const (
-	masters   = 2 // sectors ahead of the pages
-	Copies    = 2 // of each page
+	Copies    = 2 // of the master record, which comes first, and of each page
 	halves    = 2 // sectors of a copy
 	halfSlots = api.Slots / halves
 )
@@ -17,7 +16,7 @@ type Copy [halves]disk.Block
 
 // PageAt tells the first sector of a copy of a page.
 func PageAt(page, turn int) int {
-	return masters + (page*Copies+turn)*halves
+	return MasterAt(Copies) + (page*Copies+turn)*halves
 }
 
 // PackPage makes the sectors of a page of at most api.Slots keys. Both have the

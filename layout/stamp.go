@@ -36,6 +36,17 @@ func stampOf(b []byte) Stamp {
 	return Stamp{Start: uint32(r.number(4)), Count: uint32(r.number(4))}
 }
 
+// LastStart tells the greater of the start numbers that a sector has at its
+// ends, torn or not.
+func LastStart(b disk.Block) uint32 {
+	first, last := ends(b)
+	return max(first.Start, last.Start)
+}
+
+func ends(b disk.Block) (first, last Stamp) {
+	return stampOf(b[:stampBytes]), stampOf(b[api.Sector-stampBytes:])
+}
+
 func seal(s Stamp, body []byte) disk.Block {
 	var b disk.Block
 	copy(b[:], s.bytes())
@@ -46,7 +57,7 @@ func seal(s Stamp, body []byte) disk.Block {
 
 // unseal tells no body of a sector that was torn.
 func unseal(b disk.Block) (Stamp, []byte, bool) {
-	first, last := stampOf(b[:stampBytes]), stampOf(b[api.Sector-stampBytes:])
+	first, last := ends(b)
 	if first != last {
 		return Stamp{}, nil, false
 	}

@@ -5,7 +5,6 @@ import (
 	"slices"
 
 	"anvil/api"
-	"anvil/disk"
 )
 
 // hold tells how a transaction holds a key; the greater one bars more.
@@ -30,8 +29,7 @@ type core struct {
 	actions int // since the start
 }
 
-func newCore(d *disk.Disk) core {
-	v := &volume{disk: d, start: 1} // 0 stands on sectors that were never written
+func newCore(v *volume) core {
 	return core{log: journal{volume: v}, pages: newPool(v), open: map[int]*transaction{}}
 }
 

@@ -25,11 +25,15 @@ func (j *journal) add(e api.Entry) int {
 func (j *journal) force() { j.disk.Sync() }
 
 // entries reads the entries that this start has written.
-func (j *journal) entries() []api.Entry {
+func (j *journal) entries() []api.Entry { return j.entriesOf(j.start) }
+
+// entriesOf reads the entries that a start has written, up to the first one
+// that was lost: an entry is of use only with all those ahead of it.
+func (v *volume) entriesOf(start uint32) []api.Entry {
 	var all []api.Entry
 	for i := range api.LogSectors {
-		s, e, ok := layout.UnpackEntry(j.disk.Read(layout.EntryAt(i + 1)))
-		if !ok || s.Start != j.start {
+		s, e, ok := layout.UnpackEntry(v.disk.Read(layout.EntryAt(i + 1)))
+		if !ok || s.Start != start {
 			break
 		}
 		all = append(all, e)

@@ -4,6 +4,7 @@ package way
 import (
 	"anvil/api"
 	"anvil/disk"
+	"anvil/layout"
 )
 
 // Kind is a way of coming back: it rules when what a transaction makes of keys
@@ -22,15 +23,29 @@ type Kind interface {
 	Commit(t int)
 	Abort(t int)
 	Committed() []api.Pair
+
+	// changes tells what to make of the pages, in this order, so that they hold
+	// what is committed: of a log that this kind has written.
+	changes(log []api.Entry) []change
 }
 
-// New makes a store of this mode on an empty disk.
-func New(mode int, d *disk.Disk) (Kind, api.Errno) {
-	switch mode {
-	case api.Steal:
-		return &steal{newCore(d)}, api.OK
-	case api.NoSteal:
-		return &noSteal{newCore(d), map[int]map[string]api.Cell{}}, api.OK
+// Known tells whether there is a kind of this mode.
+func Known(mode int) bool { return mode == api.Steal || mode == api.NoSteal }
+
+// New makes a store of a known mode on an empty disk.
+func New(mode int, d *disk.Disk) Kind {
+	return startAs(mode, &volume{disk: d, start: 1}) // 0 stands on sectors that were never written
+}
+
+// startAs makes a store with an empty log on a disk whose pages hold what is committed.
+func startAs(mode int, v *volume) Kind {
+	v.mark(layout.Master{Log: v.start, Mode: mode})
+	return kindOf(mode, v)
+}
+
+func kindOf(mode int, v *volume) Kind {
+	if mode == api.NoSteal {
+		return &noSteal{newCore(v), map[int]map[string]api.Cell{}}
 	}
-	return nil, api.ErrMode
+	return &steal{newCore(v)}
 }

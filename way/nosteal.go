@@ -56,3 +56,16 @@ func (n *noSteal) end(t int) {
 }
 
 func (n *noSteal) Committed() []api.Pair { return sorted(n.pages.cells()) }
+
+// changes does again what was committed. The pages have nothing else, and the
+// log no other end of a transaction.
+func (n *noSteal) changes(log []api.Entry) []change {
+	var all []change
+	ended := endedIn(log)
+	for _, e := range log {
+		if _, is := ended[e.Tx]; is && e.Kind == api.Update {
+			all = append(all, change{e.Key, e.New})
+		}
+	}
+	return all
+}

@@ -67,14 +67,10 @@ func (p *pool) page(n int) *page {
 // load reads the newer copy of a page that is whole; a page that was never
 // written is empty.
 func (p *pool) load(n int) *page {
-	newest, at := layout.Stamp{}, &page{turn: layout.Copies - 1}
-	for turn := range layout.Copies {
-		s, pairs, ok := layout.UnpackPage(p.read(n, turn))
-		if ok && s.Above(newest) {
-			newest, at = s, &page{turn: turn, pairs: pairs}
-		}
-	}
-	return at
+	turn, pairs, _ := newer(func(turn int) (layout.Stamp, []api.Pair, bool) {
+		return layout.UnpackPage(p.read(n, turn))
+	})
+	return &page{turn, pairs}
 }
 
 func (p *pool) read(n, turn int) layout.Copy {
@@ -119,7 +115,7 @@ func (p *pool) flush() {
 
 func (p *pool) write(n int) {
 	from := p.page(n)
-	at := layout.PageAt(n, (from.turn+1)%layout.Copies)
+	at := layout.PageAt(n, other(from.turn))
 	for i, half := range layout.PackPage(p.stamp(), from.pairs) {
 		p.disk.Write(at+i, half)
 	}

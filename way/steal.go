@@ -1,6 +1,10 @@
 package way
 
-import "anvil/api"
+import (
+	"slices"
+
+	"anvil/api"
+)
 
 // steal changes the pages at once, and takes back what is not committed by the
 // Old of the log's entries.
@@ -57,4 +61,23 @@ func (s *steal) Committed() []api.Pair {
 		}
 	}
 	return sorted(cells)
+}
+
+// changes repeats all that the log tells, and then takes back, the last one
+// first, all that transactions did that have not ended. What such a one had
+// itself taken back already comes out the same: nobody else had the key since.
+func (s *steal) changes(log []api.Entry) []change {
+	var all []change
+	for _, e := range log {
+		if e.Kind == api.Update || e.Kind == api.Undone {
+			all = append(all, change{e.Key, e.New})
+		}
+	}
+	ended := endedIn(log)
+	for _, e := range slices.Backward(log) {
+		if _, is := ended[e.Tx]; !is && e.Kind == api.Update {
+			all = append(all, change{e.Key, e.Old})
+		}
+	}
+	return all
 }

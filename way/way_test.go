@@ -17,11 +17,7 @@ func both(t *testing.T, f func(t *testing.T, k Kind, d *disk.Disk)) {
 	for mode, name := range []string{"Steal", "NoSteal"} {
 		t.Run(name, func(t *testing.T) {
 			d := &disk.Disk{}
-			k, e := New(mode, d)
-			if e != api.OK {
-				t.Fatalf("New(%d): %d", mode, e)
-			}
-			f(t, k, d)
+			f(t, New(mode, d), d)
 		})
 	}
 }
@@ -45,12 +41,7 @@ func write(t *testing.T, k Kind, tx int, key string, to api.Cell) {
 
 // lasting is a disk that has lost all that was not synced.
 func lasting(d *disk.Disk) *disk.Disk {
-	left := &disk.Disk{}
-	image := d.Image(0)
-	for at := range api.Sectors {
-		left.Write(at, disk.Block(image[at*api.Sector:(at+1)*api.Sector]))
-	}
-	left.Sync()
+	left, _ := disk.Of(d.Image(0))
 	return left
 }
 
@@ -64,10 +55,10 @@ func pageOn(d *disk.Disk, n int) *page {
 	return p.page(n)
 }
 
-func TestNewRefusesOtherModes(t *testing.T) {
-	for _, mode := range []int{-1, 2, 1 << 40} {
-		if k, e := New(mode, &disk.Disk{}); k != nil || e != api.ErrMode {
-			t.Errorf("P3: New(%d): %v, %d", mode, k, e)
+func TestKnownModes(t *testing.T) {
+	for mode, want := range map[int]bool{api.Steal: true, api.NoSteal: true, -1: false, 2: false, 1 << 40: false} {
+		if Known(mode) != want {
+			t.Errorf("P3: mode %d is known: %v", mode, !want)
 		}
 	}
 }
@@ -92,10 +83,11 @@ func TestACommitIsWrittenAndLasting(t *testing.T) {
 
 func TestACommitWithoutWritesLeavesTheDisk(t *testing.T) {
 	both(t, func(t *testing.T, k Kind, d *disk.Disk) {
+		ahead := d.Image(0)
 		tx := begin(t, k)
 		k.Read(tx, "a")
 		k.Commit(tx)
-		if !bytes.Equal(d.Image(^uint64(0)), (&disk.Disk{}).Image(0)) {
+		if !bytes.Equal(d.Image(^uint64(0)), ahead) {
 			t.Error("P11: a commit of a transaction that only read came to the disk")
 		}
 	})
@@ -103,7 +95,7 @@ func TestACommitWithoutWritesLeavesTheDisk(t *testing.T) {
 
 func TestNoStealKeepsOffTheDiskWhatIsNotCommitted(t *testing.T) {
 	d := &disk.Disk{}
-	k, _ := New(api.NoSteal, d)
+	k := New(api.NoSteal, d)
 	tx := begin(t, k)
 	write(t, k, tx, "a", is("secret"))
 	k.Checkpoint()
@@ -121,7 +113,7 @@ func TestNoStealKeepsOffTheDiskWhatIsNotCommitted(t *testing.T) {
 
 func TestStealUndoesWhatTheDiskHas(t *testing.T) {
 	d := &disk.Disk{}
-	k, _ := New(api.Steal, d)
+	k := New(api.Steal, d)
 	tx := begin(t, k)
 	write(t, k, tx, "a", is("x"))
 	write(t, k, tx, "i", api.Cell{})
@@ -185,7 +177,7 @@ func TestPageOfSumsTheBytes(t *testing.T) {
 
 func TestTheLogNeverOutgrowsItsSectors(t *testing.T) {
 	for _, updates := range []int{1, 2, 60, api.MaxActions - 1} {
-		k, _ := New(api.Steal, &disk.Disk{})
+		k := New(api.Steal, &disk.Disk{})
 		for {
 			tx, e := k.Begin()
 			if e != api.OK {
