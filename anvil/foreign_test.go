@@ -38,11 +38,11 @@ func lived(t *testing.T, r *rand.Rand, mode int) [][]byte {
 	s, m := made(t, mode), newModel(mode)
 	var images [][]byte
 	for range 4 {
-		for range 20 + r.Intn(60) {
-			someCall(r, s, m)
-		}
+		s = someLife(t, r, s, m, 20+r.Intn(60))
 		images = append(images, s.Image(someKeep(r)))
-		s = sameBack(t, r, s, m)
+		answers(t, "Restart", s.Restart(someKeep(r), 0, 1), api.ErrCrash)
+		images = append(images, torn(t, s, someKeep(r), someTear(r)))
+		s = backFromDead(t, r, s, m, [][]api.Pair{m.dump()})
 	}
 	return images
 }
@@ -83,12 +83,7 @@ func TestSpoiltImages(t *testing.T) {
 				continue
 			}
 			stores++
-			for range 30 {
-				sameCall(t, r, s, m)
-				if r.Intn(15) == 0 {
-					s = sameBack(t, r, s, m)
-				}
-			}
+			someLife(t, r, s, m, 40)
 		}
 	})
 	if stores == 0 || refused == 0 {

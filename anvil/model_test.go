@@ -35,6 +35,15 @@ func (m *model) start(mode int) {
 	*m = model{mode: mode, committed: m.committed, open: map[int]*modelTx{}}
 }
 
+// restore is a start with this committed.
+func (m *model) restore(mode int, has []api.Pair) {
+	m.start(mode)
+	m.committed = map[string]string{}
+	for _, p := range has {
+		m.committed[p.Key] = p.Val
+	}
+}
+
 func (m *model) begin() (int, api.Errno) {
 	if len(m.open) == 4 {
 		return 0, api.ErrMany

@@ -145,3 +145,79 @@ func TestAsTheModelBehindStarts(t *testing.T) {
 		}
 	})
 }
+
+// someTear tells a length of a torn write, now and then none.
+func someTear(r *rand.Rand) int {
+	ends := []int{0, 1, 3, 4, 7, 8, 56, 57, 59, 60, 63, 64, -1, 65}
+	if r.Intn(2) == 0 {
+		return ends[r.Intn(len(ends))]
+	}
+	return r.Intn(api.Sector + 1)
+}
+
+// backFromDead has a dead store come back, of which one of these sets is committed,
+// and holds it against the stores that are opened on its images on the way.
+func backFromDead(t *testing.T, r *rand.Rand, s *Store, m *model, may [][]api.Pair) *Store {
+	t.Helper()
+	for decided := false; ; decided = true {
+		keep, tear, fuse := someKeep(r), someTear(r), max(r.Intn(24)-10, 0)
+		mode, image := r.Intn(2), s.Image(keep)
+		o := opened(t, mode, image)
+		has := oneOf(t, o, may)
+		holds(t, opened(t, 1-mode, image), has...)
+		if decided || tear == 0 {
+			may = [][]api.Pair{has}
+		}
+		if r.Intn(8) == 0 {
+			m.restore(mode, has)
+			return o
+		}
+		if e := s.Restart(keep, tear, fuse); e == api.OK {
+			m.restore(s.mode, oneOf(t, s, may))
+			return s
+		} else if e != api.ErrCrash || fuse == 0 {
+			t.Fatalf("P14: Restart(%x, %d, %d) = %d", keep, tear, fuse, e)
+		}
+		isDead(t, s)
+	}
+}
+
+// callOrFailure makes one call, in which the disk may fail.
+func callOrFailure(t *testing.T, r *rand.Rand, s *Store, m *model) *Store {
+	t.Helper()
+	ahead := m.dump()
+	what, got, want := someCall(r, s, m)
+	crash := fmt.Sprintf("%+v", []any{api.ErrCrash})
+	if got == crash {
+		s = backFromDead(t, r, s, m, [][]api.Pair{ahead, m.dump()})
+	} else if got != want {
+		t.Fatalf("%s = %s, want %s", what, got, want)
+	}
+	sameAs(t, what, s, m)
+	return s
+}
+
+// someLife makes calls, with failures at writes and between calls.
+func someLife(t *testing.T, r *rand.Rand, s *Store, m *model, calls int) *Store {
+	t.Helper()
+	often := 3 + r.Intn(60)
+	for range calls {
+		s = callOrFailure(t, r, s, m)
+		switch r.Intn(often) {
+		case 0:
+			s.Arm(r.Intn(20) - 1)
+		case 1:
+			s.Arm(1)
+		case 2:
+			s = sameBack(t, r, s, m)
+		}
+	}
+	return s
+}
+
+// TestAsTheModelWithFailures: P5, P8, P12 to P15, and P6 to P11 of stores whose disk has failed at writes.
+func TestAsTheModelWithFailures(t *testing.T) {
+	seeds(t, 200, func(t *testing.T, r *rand.Rand, mode int) {
+		someLife(t, r, made(t, mode), newModel(mode), 400)
+	})
+}

@@ -1,4 +1,4 @@
-// Package disk: a disk made of bytes in memory, whose writes are not lasting before they are synced.
+// Package disk: a disk made of bytes in memory, whose writes are not lasting before they are synced, and which may fail at a write.
 package disk
 
 import (
@@ -15,10 +15,16 @@ type write struct {
 	data Block
 }
 
+// Failure is what a write panics with at which the disk fails: it fails in the
+// midst of whatever is being done.
+type Failure struct{}
+
 // Disk is a disk of api.Sectors sectors. The zero Disk is an empty one.
 type Disk struct {
 	lasting  [api.Sectors]Block
 	unsynced []write // the oldest first
+	fuse     int     // it fails at this write from now on; at none, if 0
+	cut      *write  // the write at which it has failed, if at any
 }
 
 // Of makes a disk that holds the bytes of an image: false, if they are not as
@@ -34,8 +40,17 @@ func Of(image []byte) (*Disk, bool) {
 	return d, true
 }
 
+// Arm has the disk fail at the n-th write from now on, or at none, if n is not above 0.
+func (d *Disk) Arm(n int) { d.fuse = max(n, 0) }
+
 // Write writes a sector. It is lasting behind the next Sync.
 func (d *Disk) Write(at int, data Block) {
+	last := d.fuse == 1
+	d.fuse = max(d.fuse-1, 0)
+	if last {
+		d.cut = &write{at, data}
+		panic(Failure{})
+	}
 	d.unsynced = append(d.unsynced, write{at, data})
 }
 
@@ -58,13 +73,19 @@ func (d *Disk) Sync() {
 }
 
 // Fail loses the unsynced writes, but for those whose number modulo 64 is the
-// place of a 1 in keep.
-func (d *Disk) Fail(keep uint64) {
+// place of a 1 in keep. Of the write at which the disk has failed, if at any,
+// the first tear bytes come behind them; none, if no write has as many. Then the
+// disk works again, and no Arm holds.
+func (d *Disk) Fail(keep uint64, tear int) {
 	d.lasting = d.left(keep)
-	d.unsynced = nil
+	if d.cut != nil && tear >= 0 && tear <= api.Sector {
+		copy(d.lasting[d.cut.at][:tear], d.cut.data[:])
+	}
+	d.unsynced, d.fuse, d.cut = nil, 0, nil
 }
 
-// Image tells the bytes that Fail would leave.
+// Image tells the bytes that Fail would leave, with nothing of the write at
+// which the disk has failed.
 func (d *Disk) Image(keep uint64) []byte {
 	image := make([]byte, 0, api.Sectors*api.Sector)
 	for _, b := range d.left(keep) {

@@ -2,6 +2,7 @@ package disk
 
 import (
 	"bytes"
+	"math"
 	"testing"
 
 	"anvil/api"
@@ -87,7 +88,7 @@ func TestFailLeavesWhatImageTells(t *testing.T) {
 		d.Write(8, filled(3))
 		d.Write(7, filled(4))
 		want := d.Image(keep)
-		d.Fail(keep)
+		d.Fail(keep, 64)
 		if !bytes.Equal(d.Image(0), want) || !bytes.Equal(d.Image(^uint64(0)), want) {
 			t.Errorf("keep %b: the disk holds something else, or has unsynced writes", keep)
 		}
@@ -131,5 +132,108 @@ func TestImageIsNewMemory(t *testing.T) {
 	clear(first[:cap(first)])
 	if second := d.Image(0); bytes.Equal(first, second) || d.Read(0) != filled(1) {
 		t.Error("writing into an image reached the disk")
+	}
+}
+
+// fails tells whether the disk fails at a write.
+func fails(d *Disk, at int, data Block) (is bool) {
+	defer func() {
+		_, is = recover().(Failure)
+	}()
+	d.Write(at, data)
+	return false
+}
+
+func TestTheDiskFailsAtTheWriteThatIsArmed(t *testing.T) {
+	for _, n := range []int{1, 2, 3, 9} {
+		d := &Disk{}
+		d.Arm(n)
+		for i := 1; i < n; i++ {
+			if fails(d, i, filled(byte(i))) {
+				t.Fatalf("armed at %d, it fails at %d", n, i)
+			}
+			d.Sync()
+		}
+		if !fails(d, 20, filled(20)) {
+			t.Errorf("armed at %d, it does not fail there", n)
+		}
+		d.Fail(0, 0)
+		for range 20 {
+			if fails(d, 1, filled(1)) {
+				t.Fatalf("armed at %d, it fails twice", n)
+			}
+		}
+	}
+}
+
+func TestTheLastArmHolds(t *testing.T) {
+	for _, c := range []struct{ first, last, at int }{{1, 3, 3}, {3, 1, 1}, {1, 0, 0}, {2, -1, 0}, {1, math.MinInt, 0}, {1, math.MaxInt, 0}, {0, 2, 2}} {
+		d := &Disk{}
+		d.Arm(c.first)
+		d.Arm(c.last)
+		at := 0
+		for i := 1; i <= 5 && at == 0; i++ {
+			if fails(d, i, filled(1)) {
+				at = i
+			}
+		}
+		if at != c.at {
+			t.Errorf("armed at %d, then at %d, it fails at %d, want %d", c.first, c.last, at, c.at)
+		}
+	}
+}
+
+// cutAt is a disk that has failed at its fourth write from the sync on, which goes to a sector.
+func cutAt(at int) *Disk {
+	d := &Disk{}
+	d.Write(7, filled(1))
+	d.Sync()
+	d.Arm(4)
+	d.Write(7, filled(2))
+	d.Write(8, filled(3))
+	d.Write(7, filled(4))
+	fails(d, at, filled(5))
+	return d
+}
+
+func TestOfTheLastWriteTheFirstBytesAreLeft(t *testing.T) {
+	for _, at := range []int{7, 8, 9} {
+		for keep := range uint64(16) {
+			ahead := cutAt(at).Image(keep)
+			for tear := -2; tear <= api.Sector+2; tear++ {
+				want := bytes.Clone(ahead)
+				for i := range tear {
+					if tear <= api.Sector {
+						want[at*api.Sector+i] = 5
+					}
+				}
+				d := cutAt(at)
+				d.Fail(keep, tear)
+				if !bytes.Equal(d.Image(0), want) || !bytes.Equal(d.Image(^uint64(0)), want) {
+					t.Errorf("sector %d, keep %b, tear %d: the disk holds something else, or has unsynced writes", at, keep, tear)
+				}
+			}
+		}
+	}
+}
+
+func TestTheLastWriteIsNoneOfTheUnsynced(t *testing.T) {
+	d := cutAt(9)
+	if image := d.Image(^uint64(0)); sectorOf(image, 9) != (Block{}) || sectorOf(image, 7) != filled(4) {
+		t.Error("an image has the write at which the disk has failed, or lost another")
+	}
+}
+
+func TestAFailureIsForgotten(t *testing.T) {
+	d := cutAt(9)
+	d.Fail(0, 0)
+	ahead := d.Image(0)
+	d.Arm(1)
+	d.Fail(0, api.Sector)
+	if !bytes.Equal(d.Image(0), ahead) {
+		t.Error("a write of an earlier failure came to the disk")
+	}
+	if fails(d, 1, filled(1)) {
+		t.Error("an Arm held behind a failure")
 	}
 }

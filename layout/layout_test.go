@@ -1,6 +1,7 @@
 package layout
 
 import (
+	"bytes"
 	"slices"
 	"testing"
 
@@ -118,22 +119,57 @@ func TestTornMastersShow(t *testing.T) {
 	}
 }
 
-func TestLastStartIsOfBothEnds(t *testing.T) {
-	a, b := PackEntry(Stamp{5, 9}, api.Entry{}), PackEntry(Stamp{3, 10}, api.Entry{})
-	for bytes := range api.Sector + 1 {
-		want := uint32(5)
-		if bytes >= api.Sector-4 { // all of the start at the end is overwritten
-			want = 3
+func TestWipedSectorsHoldNothing(t *testing.T) {
+	for _, body := range []byte{0, 1, 0xff} {
+		b := Wiped()
+		for i := stampBytes; i < api.Sector-stampBytes; i++ {
+			b[i] = body // it may come of a write that was torn
 		}
-		if got := LastStart(torn(a, b, bytes)); got != want {
-			t.Errorf("3 over 5, torn behind %d bytes: %d", bytes, got)
-		}
-		if got := LastStart(torn(b, a, bytes)); got != 5 && bytes > 3 {
-			t.Errorf("5 over 3, torn behind %d bytes: %d", bytes, got)
+		_, _, entry := UnpackEntry(b)
+		_, _, master := UnpackMaster(b)
+		_, _, page := UnpackPage(Copy{b, b})
+		if entry || master || page || Torn(b) || StartOf(b) != 0 {
+			t.Errorf("wiped, with %d: entry %v, master %v, page %v, torn %v, start %d", body, entry, master, page, Torn(b), StartOf(b))
 		}
 	}
-	if LastStart(disk.Block{}) != 0 {
-		t.Error("a sector that was never written has a start")
+}
+
+func TestStartOf(t *testing.T) {
+	old, b := disk.Block{}, PackEntry(Stamp{0x01020304, 9}, api.Entry{})
+	for bytes := range api.Sector + 1 {
+		mixed := torn(old, b, bytes)
+		want := uint32(0)
+		if mixed == b {
+			want = 0x01020304
+		}
+		if got := StartOf(mixed); got != want || Torn(mixed) == (mixed == b || mixed == old) {
+			t.Errorf("torn behind %d bytes: start %d, torn %v", bytes, got, Torn(mixed))
+		}
+	}
+}
+
+// A wipe may be torn, and what is written over what was wiped: it always shows.
+func TestTornWipesShow(t *testing.T) {
+	stamps := []Stamp{{}, {1, 1}, {1, 0xff}, {0xff, 0xffffffff}, {0x100, 1}, {0x1ff, 0xffff}, {1 << 30, 0xff00ff00}, {1 << 31, 7}}
+	whole := func(b disk.Block) bool { _, _, ok := unseal(b); return ok }
+	for i, older := range stamps {
+		for _, newer := range stamps[i+1:] {
+			a, b := seal(older, bytes.Repeat([]byte{1}, bodyBytes)), seal(newer, bytes.Repeat([]byte{2}, bodyBytes))
+			for tear := range api.Sector + 1 {
+				if mixed := torn(Wiped(), b, tear); whole(mixed) && mixed != b {
+					t.Errorf("%v over a wiped sector, torn behind %d bytes, is taken for whole", newer, tear)
+				}
+				once := torn(a, b, tear)
+				if !Torn(once) {
+					continue
+				}
+				for again := range api.Sector + 1 {
+					if whole(torn(once, Wiped(), again)) {
+						t.Errorf("%v over %v, torn behind %d bytes, wiped and torn behind %d, is taken for whole", newer, older, tear, again)
+					}
+				}
+			}
+		}
 	}
 }
 

@@ -3,6 +3,7 @@ package layout
 
 import (
 	"cmp"
+	"math"
 
 	"anvil/api"
 	"anvil/disk"
@@ -25,8 +26,8 @@ func (s Stamp) Above(o Stamp) bool {
 	return cmp.Or(cmp.Compare(s.Start, o.Start), cmp.Compare(s.Count, o.Count)) > 0
 }
 
-// The high bytes come first, so that stamps rise as strings of bytes: what a
-// torn stamp makes of the one beneath it is then never an older one again.
+// The high bytes come first: a start's number is far too small to begin with the
+// byte with which Wiped begins.
 func (s Stamp) bytes() []byte {
 	return appendNumber(appendNumber(nil, int(s.Start), 4), int(s.Count), 4)
 }
@@ -36,11 +37,25 @@ func stampOf(b []byte) Stamp {
 	return Stamp{Start: uint32(r.number(4)), Count: uint32(r.number(4))}
 }
 
-// LastStart tells the greater of the start numbers that a sector has at its
-// ends, torn or not.
-func LastStart(b disk.Block) uint32 {
+// noStamp is the stamp of no write of a start.
+func noStamp() Stamp { return Stamp{math.MaxUint32, math.MaxUint32} }
+
+// Wiped is what a torn sector is made before anything else is written to it.
+// Else what is torn once more might have like stamps at its ends by chance, made
+// of three writes. No stamp begins as this one does, so Wiped may be torn too.
+func Wiped() disk.Block { return seal(noStamp(), nil) }
+
+// Torn tells whether a sector has not all of one write.
+func Torn(b disk.Block) bool {
 	first, last := ends(b)
-	return max(first.Start, last.Start)
+	return first != last
+}
+
+// StartOf tells the start that wrote a sector, 0 if there is none: the sector
+// was never written, or is torn or wiped.
+func StartOf(b disk.Block) uint32 {
+	s, _, _ := unseal(b)
+	return s.Start
 }
 
 func ends(b disk.Block) (first, last Stamp) {
@@ -55,11 +70,11 @@ func seal(s Stamp, body []byte) disk.Block {
 	return b
 }
 
-// unseal tells no body of a sector that was torn.
+// unseal tells no body of a sector that is torn or wiped.
 func unseal(b disk.Block) (Stamp, []byte, bool) {
-	first, last := ends(b)
-	if first != last {
+	s, _ := ends(b)
+	if Torn(b) || s == noStamp() {
 		return Stamp{}, nil, false
 	}
-	return first, b[stampBytes : stampBytes+bodyBytes], true
+	return s, b[stampBytes : stampBytes+bodyBytes], true
 }

@@ -36,6 +36,7 @@ func Adopt(mode int, d *disk.Disk) Kind {
 // already: so the disk may fail anywhere on the way back. The log is followed in
 // the way of the kind that has written it, which may be of another mode.
 func Back(mode int, d *disk.Disk) Kind {
+	wipe(d)
 	v := &volume{disk: d, start: lastStart(d) + 1}
 	was := v.find()
 	v.mark(was) // lest another start have this one's number

@@ -194,7 +194,7 @@ func TestTheWayBackLeavesNothingUnsynced(t *testing.T) {
 		for mode := range 2 {
 			tx := begin(t, k)
 			write(t, k, tx, "a", is("x"))
-			d.Fail(^uint64(0))
+			d.Fail(^uint64(0), 0)
 			k = Back(mode, d)
 			if !bytes.Equal(d.Image(0), d.Image(^uint64(0))) {
 				t.Error("a start has unsynced writes")
@@ -211,27 +211,105 @@ func masters(d *disk.Disk) (stamps []layout.Stamp) {
 	return stamps
 }
 
-// The numbers of starts are above all that stand on the disk, torn or not.
+// The numbers of starts are above all that stand on the disk.
 func TestStartsHaveNewNumbers(t *testing.T) {
+	for at := layout.PageAt(0, 0); at < api.Sectors; at++ {
+		d := written(api.Steal, nil, nil)
+		d.Write(at, layout.PackEntry(layout.Stamp{Start: 7 << 8}, api.Entry{}))
+		d.Sync()
+		Back(api.Steal, d)
+		if s := masters(d); s[0].Start != 7<<8+1 || s[1].Start != 7<<8+1 {
+			t.Errorf("sector %d has number %d, the next start %v", at, 7<<8, s)
+		}
+	}
+}
+
+// failsBack tells whether the disk fails on the way back, at this write.
+func failsBack(d *disk.Disk, fuse int) (is bool) {
+	defer func() {
+		_, is = recover().(disk.Failure)
+		d.Arm(0)
+	}()
+	d.Arm(fuse)
+	Back(api.Steal, d)
+	return false
+}
+
+// tornAt is a disk of which this sector is torn, with a great number at one end.
+func tornAt(at int) *disk.Disk {
+	d := written(api.Steal, nil, nil)
+	b := d.Read(at)
+	b[at%2*(api.Sector-8)] = 0x77
+	d.Write(at, b)
+	d.Sync()
+	return d
+}
+
+// A torn sector is wiped ahead of all other writes, and its numbers are nobody's.
+func TestTornSectorsAreWipedFirst(t *testing.T) {
 	for at := range api.Sectors {
 		if at == layout.MasterAt(1) {
 			continue // the only master record that the disk has
 		}
-		d := written(api.Steal, nil, nil)
-		b := d.Read(at)
-		if at%2 == 0 {
-			b[2] = 7 // the byte of worth 1<<8 in the start at the beginning
-		} else {
-			b[api.Sector-6] = 7 // and in that at the end
+		d := tornAt(at)
+		ahead := d.Image(0)
+		if !failsBack(d, 2) {
+			t.Fatal("the way back has one write")
 		}
-		d.Write(at, b)
-		d.Sync()
+		wiped := layout.Wiped()
+		copy(ahead[at*api.Sector:], wiped[:])
+		if !bytes.Equal(d.Image(0), ahead) {
+			t.Errorf("torn sector %d is not wiped, or not synced, ahead of the second write", at)
+		}
+		d.Fail(0, 0)
 		Back(api.Steal, d)
-		for _, s := range masters(d) {
-			if s.Start <= 7<<8 {
-				t.Errorf("sector %d has a number that is above start %d", at, s.Start)
-			}
+		if s := masters(d); s[0].Start != 4 || s[1].Start != 4 {
+			t.Errorf("behind a torn sector %d starts have the numbers %v", at, s)
 		}
+	}
+}
+
+// Two torn writes of a sector, one over the other, leave like stamps at its ends
+// if their bytes happen to fit. Here they would leave an entry of a log that never had it.
+func TestTornOverTornShows(t *testing.T) {
+	at := layout.EntryAt(1)
+	d := written(api.Steal, nil, nil)
+	v := volume{disk: d, start: 0x104}
+	v.mark(layout.Master{Log: 0x104, Mode: api.Steal})
+	const count = 3 // of the first entry of a start: two master records come ahead of it
+	tear := func(bytes int, write func()) {
+		defer func() {
+			recover()
+			d.Fail(0, bytes)
+		}()
+		d.Arm(1)
+		write()
+	}
+	enter := func(start uint32) {
+		d.Write(at, layout.PackEntry(layout.Stamp{Start: start, Count: count}, put(1, "a", api.Cell{}, is("never"))))
+	}
+	tear(api.Sector, func() { enter(5) })
+	tear(api.Sector-8+3, func() { enter(0x100) })
+	k := Back(api.Steal, d)
+	tx := begin(t, k)
+	tear(4, func() { write(t, k, tx, "c", is("now")) })
+	v.find()
+	if got := v.entriesOf(masters(d)[v.turn].Start); len(got) != 0 {
+		t.Errorf("torn three times, the sector is taken for %+v", got)
+	}
+}
+
+// However often writes are torn, each start has the next number at most.
+func TestNumbersDoNotLeap(t *testing.T) {
+	d := &disk.Disk{}
+	New(api.Steal, d)
+	for i := range 5000 {
+		if failsBack(d, 1+i%3) {
+			d.Fail(^uint64(0), []int{1, 2, 3, 57, 58, 59, 8, 30}[i%8])
+		}
+	}
+	if got := lastStart(d); got > 5001 {
+		t.Errorf("behind 5000 starts the number is %d", got)
 	}
 }
 

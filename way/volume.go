@@ -20,9 +20,21 @@ type volume struct {
 func lastStart(d *disk.Disk) uint32 {
 	var most uint32
 	for at := range api.Sectors {
-		most = max(most, layout.LastStart(d.Read(at)))
+		most = max(most, layout.StartOf(d.Read(at)))
 	}
 	return most
+}
+
+// wipe leaves no sector torn. It comes ahead of all other writes of a start: so
+// each of them goes to a sector that has all of one write, and what is torn of
+// it shows.
+func wipe(d *disk.Disk) {
+	for at := range api.Sectors {
+		if layout.Torn(d.Read(at)) {
+			d.Write(at, layout.Wiped())
+		}
+	}
+	d.Sync()
 }
 
 func (v *volume) stamp() layout.Stamp {
