@@ -239,12 +239,12 @@ func TestTheBytesDecide(t *testing.T) {
 	})
 }
 
-// P14, P15: the disk fails at each write of the way back, with every third tear, and again on the next.
+// P14, P15: the disk fails at each write of the way back, with every tear, and again on the next.
 func TestFailuresOnTheWayBack(t *testing.T) {
 	eachFailure(t, func(t *testing.T, make func() *Store, may [][]api.Pair) {
 		all := tears()
 		for fuse, back := 1, false; !back; fuse++ {
-			for i := fuse % 3; i < len(all) && !back; i += 3 {
+			for i, tear := range all {
 				s := make()
 				e := s.Restart(^uint64(0), 64, fuse)
 				if back = e == api.OK; back {
@@ -253,7 +253,7 @@ func TestFailuresOnTheWayBack(t *testing.T) {
 				answers(t, "P14: Restart with a fuse", e, api.ErrCrash)
 				keep, next := keeps[i%len(keeps)], keeps[(i+fuse)%len(keeps)]
 				has := oneOf(t, opened(t, i%2, s.Image(keep)), may)
-				e = s.Restart(keep, all[i], 1+(fuse+i)%7)
+				e = s.Restart(keep, tear, 1+(fuse+i)%7)
 				if e == api.ErrCrash {
 					e = s.Restart(next, all[i*5%len(all)], 0)
 				}
