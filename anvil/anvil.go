@@ -25,17 +25,17 @@ func New(mode int) (*Store, api.Errno) {
 	return &Store{mode, d, way.New(mode, d)}, api.OK
 }
 
-// Open makes a store on a disk that holds these bytes (P4).
+// Open makes a store of what is committed on a disk that holds these bytes (P4).
 func Open(mode int, image []byte) (*Store, api.Errno) {
 	if !way.Known(mode) {
 		return nil, api.ErrMode
 	}
-	d, whole := disk.Of(image)
+	from, whole := disk.Of(image)
 	if !whole {
 		return nil, api.ErrCorrupt
 	}
-	s := &Store{mode: mode, disk: d}
-	if e := s.comeBack(way.Adopt); e != api.OK {
+	s := &Store{mode: mode, disk: &disk.Disk{}}
+	if e := s.comeBack(func() way.Kind { return way.Adopt(mode, from, s.disk) }); e != api.OK {
 		return nil, e
 	}
 	return s, api.OK
@@ -137,14 +137,14 @@ func (s *Store) Arm(n int) {
 func (s *Store) Restart(keep uint64, tear int, fuse int) api.Errno {
 	s.disk.Fail(keep, tear)
 	s.disk.Arm(fuse)
-	e := s.comeBack(way.Back)
+	e := s.comeBack(func() way.Kind { return way.Back(s.mode, s.disk) })
 	s.disk.Arm(0) // the fuse was for the way back alone
 	return e
 }
 
-func (s *Store) comeBack(how func(mode int, d *disk.Disk) way.Kind) api.Errno {
+func (s *Store) comeBack(how func() way.Kind) api.Errno {
 	return s.caught(func() api.Errno {
-		s.way = how(s.mode, s.disk)
+		s.way = how()
 		return api.OK
 	})
 }

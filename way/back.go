@@ -6,6 +6,7 @@ import (
 
 	"anvil/api"
 	"anvil/disk"
+	"anvil/layout"
 )
 
 // change is what the way back makes of a key.
@@ -17,33 +18,43 @@ type change struct {
 // Foreign is what Adopt panics with on a disk that holds what no store has written.
 type Foreign string
 
-// mostStarts is more than a store ever comes back, and so little that as many
-// starts may follow.
-const mostStarts = 1 << 31
-
-// Adopt is Back on a disk that may be anybody's.
-func Adopt(mode int, d *disk.Disk) Kind {
-	if lastStart(d) > mostStarts {
-		panic(Foreign("there are too few numbers left for starts"))
-	}
-	return Back(mode, d)
-}
-
-// Back makes a store of a known mode of what a disk holds, with an empty log.
+// Back makes a store of a known mode of what its disk holds, with an empty log.
 //
 // Until the master record at its end, what is committed is what the log makes of
 // the pages, and that is the same whether or not a page has followed the log
-// already: so the disk may fail anywhere on the way back. The log is followed in
-// the way of the kind that has written it, which may be of another mode.
+// already: so the disk may fail anywhere on the way back.
 func Back(mode int, d *disk.Disk) Kind {
 	wipe(d)
 	v := &volume{disk: d, start: lastStart(d) + 1}
 	was := v.find()
 	v.mark(was) // lest another start have this one's number
-	pages := newPool(v)
-	pages.bringUp(kindOf(was.Mode, v).changes(v.entriesOf(was.Log)))
+	pages := v.upToDate(was)
 	pages.flush()
 	return startAs(mode, v)
+}
+
+// Adopt makes a store of a known mode, on an empty disk, of what is committed on
+// another one, which may be anybody's. Nothing else of that one comes along, its
+// numbers neither: so those of this store begin as a new store's do, and however
+// great the others are, and whatever they are of, they are in nobody's way.
+func Adopt(mode int, from, to *disk.Disk) Kind {
+	was := &volume{disk: from}
+	theirs := was.upToDate(was.find())
+	v := firstStart(to)
+	ours := newPool(v)
+	for _, p := range sorted(theirs.cells()) {
+		ours.set(p.Key, api.Cell{Is: true, Val: p.Val})
+	}
+	ours.flush() // ahead of the master record: nobody can have this disk fail yet
+	return startAs(mode, v)
+}
+
+// upToDate has all pages in memory as the log has left them. It is followed in
+// the way of the kind that has written it, whatever the mode is of the store to come.
+func (v *volume) upToDate(m layout.Master) pool {
+	pages := newPool(v)
+	pages.bringUp(kindOf(m.Mode, v).changes(v.entriesOf(m.Log)))
+	return pages
 }
 
 // endedIn tells the transactions that were committed, or wholly taken back.

@@ -22,9 +22,13 @@ func ended(kind, tx int) api.Entry { return api.Entry{Kind: kind, Tx: tx} }
 
 // written is a disk with this log and these pages, as start 3 has left it.
 func written(mode int, log []api.Entry, pages map[int][]api.Pair) *disk.Disk {
+	return writtenBy(3, mode, log, pages)
+}
+
+func writtenBy(start uint32, mode int, log []api.Entry, pages map[int][]api.Pair) *disk.Disk {
 	d := &disk.Disk{}
-	v := &volume{disk: d, start: 3}
-	v.mark(layout.Master{Log: 3, Mode: mode})
+	v := &volume{disk: d, start: start}
+	v.mark(layout.Master{Log: start, Mode: mode})
 	j := journal{volume: v}
 	for _, e := range log {
 		j.add(e)
@@ -43,7 +47,7 @@ func refused(d *disk.Disk) (is bool) {
 	defer func() {
 		_, is = recover().(Foreign)
 	}()
-	Adopt(api.Steal, d)
+	Adopt(api.Steal, d, &disk.Disk{})
 	return false
 }
 
@@ -363,22 +367,48 @@ func TestStrangeEntries(t *testing.T) {
 	}
 }
 
-// A store that was opened on great numbers still has room to come back.
-func TestAdoptLeavesNumbersForStarts(t *testing.T) {
-	for _, c := range []struct {
-		start uint32
-		want  bool
-	}{{1 << 30, false}, {1<<31 - 1, false}, {1 << 31, false}, {1<<31 + 1, true}, {1<<32 - 2, true}, {1<<32 - 1, true}} {
-		d := written(api.Steal, nil, nil)
-		d.Write(layout.EntryAt(9), layout.PackEntry(layout.Stamp{Start: c.start}, api.Entry{}))
-		d.Sync()
-		if got := refused(d); got != c.want {
-			t.Errorf("start %d is refused: %v", c.start, got)
+// Whatever numbers stand on a disk, a store that is made of it begins with 1, and
+// so does one that is made of its own.
+func TestAdoptBringsNoNumbersAlong(t *testing.T) {
+	log := []api.Entry{put(1, "a", is("0"), is("1")), ended(api.Commit, 1), put(2, "b", api.Cell{}, is("never"))}
+	want := []api.Pair{{Key: "a", Val: "1"}, {Key: "i", Val: "0"}}
+	for _, start := range []uint32{0, 1, 2, 255, 1 << 30, 1<<31 - 1, 1 << 31, 1<<31 + 1, 0xff << 24, 1<<32 - 2, 1<<32 - 1} {
+		for mode := range 2 {
+			d := writtenBy(start, mode, log, map[int][]api.Pair{1: {{Key: "a", Val: "0"}, {Key: "i", Val: "0"}}})
+			d.Sync()
+			ahead := d.Image(0)
+			for as := range 2 {
+				to := &disk.Disk{}
+				k := Adopt(as, d, to)
+				if got := k.Committed(); !slices.Equal(got, want) || len(k.Entries()) != 0 {
+					t.Errorf("of start %d come %v and %v", start, got, k.Entries())
+				}
+				if lastStart(to) != 1 || lastStart(lasting(to)) != 1 {
+					t.Errorf("behind start %d stand numbers up to %d", start, lastStart(to))
+				}
+				if got := Adopt(as, to, &disk.Disk{}).Committed(); !slices.Equal(got, want) {
+					t.Errorf("of the disk of a store of that comes %v", got)
+				}
+			}
+			if !bytes.Equal(d.Image(^uint64(0)), ahead) {
+				t.Error("the disk of which a store was made is another now")
+			}
 		}
-		if !c.want {
-			Back(api.Steal, d)
-			if s := masters(d); s[0].Start != c.start+2 || s[1].Start != c.start+2 {
-				t.Errorf("behind start %d come %v", c.start+1, s)
+	}
+}
+
+// What is left of other logs, torn or lost does not come along.
+func TestAdoptBringsWhatIsCommittedAlone(t *testing.T) {
+	has := []api.Pair{{Key: "a", Val: "0"}, {Key: "i", Val: "0"}}
+	clean := &disk.Disk{}
+	Adopt(api.Steal, written(api.Steal, nil, map[int][]api.Pair{1: has}), clean)
+	for at := layout.PageAt(2, 0); at < api.Sectors; at++ {
+		for _, b := range []disk.Block{layout.PackEntry(layout.Stamp{Start: 7, Count: 1}, put(1, "c", api.Cell{}, is("never"))), {9}, layout.Wiped()} {
+			d, to := written(api.Steal, nil, map[int][]api.Pair{1: has}), &disk.Disk{}
+			d.Write(at, b)
+			Adopt(api.Steal, d, to)
+			if !bytes.Equal(to.Image(0), clean.Image(0)) {
+				t.Errorf("sector %d leaves something on the disk of a store that was made of it", at)
 			}
 		}
 	}

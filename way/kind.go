@@ -34,7 +34,7 @@ func Known(mode int) bool { return mode == api.Steal || mode == api.NoSteal }
 
 // New makes a store of a known mode on an empty disk.
 func New(mode int, d *disk.Disk) Kind {
-	return startAs(mode, &volume{disk: d, start: 1}) // 0 stands on sectors that were never written
+	return startAs(mode, firstStart(d))
 }
 
 // startAs makes a store with an empty log on a disk whose pages hold what is committed.

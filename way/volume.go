@@ -14,9 +14,11 @@ type volume struct {
 	turn  int // which copy of the master record is the newer one
 }
 
+// firstStart is of an empty disk, whose sectors have the number 0.
+func firstStart(d *disk.Disk) *volume { return &volume{disk: d, start: 1} }
+
 // lastStart tells the greatest number of a start that stands anywhere on the
-// disk. The bytes may be anybody's: none of them must pass for those of a start
-// to come.
+// disk: no sector must pass for one of a start to come.
 func lastStart(d *disk.Disk) uint32 {
 	var most uint32
 	for at := range api.Sectors {
